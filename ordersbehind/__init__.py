@@ -1,0 +1,1 @@
+"""Ordersbehind: the orders that stand behind a web."""

@@ -1,0 +1,82 @@
+"""The examples of the interface, with the answers that stand there."""
+
+import unittest
+
+from ordersbehind.behind import Behind
+from ordersbehind.chains import chain
+from ordersbehind.choices import choice_text, next_ways
+from ordersbehind.classes import class_of, same_class, touched
+from ordersbehind.colourwood import colour_place, count_loose, knot_colours
+from ordersbehind.errors import BadText, NotTied
+from ordersbehind.forcing import forced_by
+from ordersbehind.plain import all_behind, misfit, turned_by
+from ordersbehind.rings import is_odd_ring, odd_ring, ring_chain
+from ordersbehind.texts import order_from
+from ordersbehind.webs import Web
+from ordersbehind.wood import Wood, count_parts
+from tests.case import Case
+
+SIX = (6, [(0, 1), (1, 2), (2, 3), (0, 4), (1, 4), (2, 4), (3, 4)])
+HAT = (5, SIX[1])
+
+
+class ExamplesTest(Case):
+
+    def test_webs(self):
+        w = Web(4, [(2, 1), (0, 1), [3, 2]])
+        self.same([w.ties, (~w).ties, w.near(1), w.without(1).pieces()],
+                  [((0, 1), (1, 2), (2, 3)), ((0, 2), (0, 3), (1, 3)), (0, 2), ((0,), (1, 2))])
+
+    def test_plain(self):
+        w = Web(4, [(0, 1), (1, 2), (2, 3)])
+        p, q = all_behind(w)
+        self.same([p.arrows, q.arrows, misfit(w, [3, 2, 0, 1]), turned_by(w, (1, 0, 3, 2)) == q],
+                  [((0, 1), (2, 1), (2, 3)), ((1, 0), (1, 2), (3, 2)), (3, 2, 1), True])
+
+    def test_texts(self):
+        self.told(BadText, {"line": 0}, order_from, "things 3\nbelow 1 2\nbelow 0 1")
+
+    def test_forcing(self):
+        w = Web(4, [(0, 1), (1, 2), (2, 3)])
+        self.same([forced_by(w, (2, 1)), class_of(w, (3, 2)), chain(w, (0, 1), (2, 3)), touched(Web.full(3), (2, 0))],
+                  [((0, 1), (2, 3)), ((1, 0), (1, 2), (3, 2)), ((0, 1), (2, 1), (2, 3)), (0, 2)])
+
+    def test_rings(self):
+        five = Web(5, [(0, 1), (1, 2), (2, 3), (3, 4), (4, 0)])
+        net = Web(6, [(0, 1), (0, 2), (1, 2), (0, 3), (1, 4), (2, 5)])
+        self.same([ring_chain(five, [0, 1, 2, 3, 4]), len(odd_ring(net)),
+                   is_odd_ring(net, (3, 0, 1, 4, 1, 2, 5, 2, 0))],
+                  [((0, 1), (2, 1), (2, 3), (4, 3), (4, 0), (1, 0)), 9, True])
+
+    def test_classes(self):
+        self.told(NotTied, {"first": 1, "second": 2}, same_class, Web(3, [(0, 1)]), (1, 2), (1, 0))
+
+    def test_wood(self):
+        x = Wood(Web(*SIX))
+        self.same([x.lots()[:3], x.knots[0].kind, x.knots[1].children, x.knots[2].kind, x.knots[2].leaders()],
+                  [((0, 1, 2, 3, 4, 5), (0, 1, 2, 3, 4), (0, 1, 2, 3)), "free", ((0, 1, 2, 3), (4,)), "firm",
+                   (0, 1, 2, 3)])
+        self.same([x.height, x.parent(2), x.parting(0, 4).number, [3, 1, 0, 2] in x, count_parts(x)],
+                  [3, 1, 1, True, 9])
+
+    def test_colourwood(self):
+        x = Wood(Web(*SIX))
+        self.same([knot_colours(x, 1), colour_place(x, (4, 2)), colour_place(x, (2, 1)), count_loose(x)],
+                  [(((0, 4), (1, 4), (2, 4), (3, 4)),), (1, 0, 1), (2, -1, -1), 2])
+
+    def test_behind(self):
+        b = Behind(Web(*HAT))
+        p = b.order_of([[1, 0], 0])
+        self.same([b.many, b.places, p.arrows, b.number_of(p), b.ways_of(~p)],
+                  [4, (0, 1), ((0, 1), (2, 1), (2, 3), (4, 0), (4, 1), (4, 2), (4, 3)), 2, ((0, 1), 1)])
+        p, q = list(Behind(Web(3, [(0, 2), (1, 2)])).by_number())
+        self.same([p.arrows, q.arrows], [((0, 2), (1, 2)), ((2, 0), (2, 1))])
+
+    def test_choices(self):
+        b = Behind(Web(*HAT))
+        self.same([next_ways(b, [(0, 1), 1]), choice_text(b, ((1, 0), 0))],
+                  [((1, 0), 0), "0 1 2 3 4 full 1 0\n0 1 2 3 firm 0\n"])
+
+
+if __name__ == "__main__":
+    unittest.main()

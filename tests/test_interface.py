@@ -1,0 +1,98 @@
+"""The interface: every name stands in its file, with its parameters; every method stands in its class."""
+
+import importlib
+import inspect
+import unittest
+
+FUNCTIONS = {
+    "checks": ["thing_of(size, value, name='thing')", "lot_of(size, things, *, empty=False)", "row_of(size, things)",
+               "pair_of(size, pair)", "ties_of(size, pairs)", "arrows_of(size, pairs)",
+               "number_of_kind(value, low, high, name)"],
+    "orders": ["web_of(order)", "is_behind(order, web)", "unlike_pair(order, web)"],
+    "texts": ["web_text(web)", "order_text(order)", "web_from(text)", "order_from(text)"],
+    "plain": ["all_behind(web)", "misfit(web, row)", "fits(web, row)", "turned_by(web, row)"],
+    "forcing": ["forced_by(web, arrow)", "forces(web, first, last)"],
+    "classes": ["class_of(web, arrow)", "classes(web)", "same_class(web, first, last)", "colour_of(web, tie)",
+                "colours(web)", "is_odd(web, tie)", "touched(web, tie)"],
+    "chains": ["chain(web, first, last)", "is_chain(web, arrows)"],
+    "rings": ["odd_ring(web, *, tie=None)", "is_odd_ring(web, things)", "ring_chain(web, ring)",
+              "colour_of_ring(web, ring)"],
+    "parts": ["splitter(web, lot)", "is_part(web, lot)", "part_with(web, lot)", "parts(web)", "lap(one, other)"],
+    "wood": ["quotient(wood, number)", "count_parts(wood)"],
+    "colourwood": ["knot_colours(wood, number)", "colour_place(wood, tie)", "count_colours(wood)", "count_loose(wood)",
+                   "odd_knots(wood)", "ring_below(wood, ring)", "lots_by_colours(web)"],
+    "choices": ["first_ways(behind)", "next_ways(behind, ways)", "contrary_ways(behind, ways)",
+                "with_arrow(behind, arrow)", "only_contraries(web)", "choice_text(behind, ways)"],
+}
+
+METHODS = {
+    "webs.Web": ["__init__(self, size, ties=())", "tied(self, first, second)", "near(self, thing)", "on(self, lot)",
+                 "without(self, thing)", "renamed(self, row)", "pieces(self)"],
+    "orders.Order": ["__init__(self, size, arrows=())", "has(self, first, second)", "below(self, thing)",
+                     "above(self, thing)", "bottoms(self)", "tops(self)", "on(self, lot)", "without(self, thing)",
+                     "renamed(self, row)"],
+    "wood.Knot": ["child(self, thing)", "leaders(self)"],
+    "wood.Wood": ["__init__(self, web)", "lots(self)", "parting(self, first, second)", "knots_over(self, thing)",
+                  "parent(self, number)"],
+    "behind.Behind": ["__init__(self, web)", "order_of(self, ways)", "ways_of(self, order)", "number_of(self, order)",
+                      "at(self, number)", "colour_ways(self, order, tie)", "by_number(self)"],
+}
+
+SIGNS = {
+    "webs.Web": ["__invert__", "__eq__", "__len__", "__contains__", "__iter__", "__or__", "__and__"],
+    "orders.Order": ["__invert__", "__eq__", "__len__", "__contains__", "__iter__", "__or__", "__and__"],
+    "wood.Wood": ["__len__", "__iter__", "__contains__"],
+    "behind.Behind": ["__contains__", "__eq__"],
+}
+
+DECORATED = {
+    "webs.Web": [("full", classmethod)],
+    "orders.Order": [("along", classmethod)],
+    "wood.Wood": [("kinds", staticmethod), ("height", property)],
+    "behind.Behind": [("many", property)],
+}
+
+
+def found(path):
+    """The class with this path."""
+    name, inside = path.split(".")
+    return getattr(importlib.import_module("ordersbehind." + name), inside)
+
+
+class InterfaceTest(unittest.TestCase):
+
+    def test_functions(self):
+        for name, signatures in FUNCTIONS.items():
+            module = importlib.import_module("ordersbehind." + name)
+            for signature in signatures:
+                function = getattr(module, signature.split("(")[0])
+                self.assertEqual(function.__module__, module.__name__)
+                self.assertEqual(function.__name__ + str(inspect.signature(function)), signature)
+
+    def test_methods(self):
+        for path, signatures in METHODS.items():
+            for signature in signatures:
+                method = vars(found(path))[signature.split("(")[0]]
+                self.assertEqual(method.__name__ + str(inspect.signature(method)), signature)
+
+    def test_signs(self):
+        for path, names in SIGNS.items():
+            for name in names:
+                self.assertIn(name, vars(found(path)), path)
+
+    def test_decorated(self):
+        for path, names in DECORATED.items():
+            for name, kind in names:
+                self.assertIsInstance(vars(found(path))[name], kind)
+
+    def test_places_of_classes(self):
+        for path in METHODS:
+            self.assertEqual(found(path).__module__, "ordersbehind." + path.split(".")[0])
+
+    def test_parameters_of_class_methods(self):
+        self.assertEqual(str(inspect.signature(found("webs.Web").full)), "(size)")
+        self.assertEqual(str(inspect.signature(found("orders.Order").along)), "(row)")
+
+
+if __name__ == "__main__":
+    unittest.main()
