@@ -6,7 +6,6 @@ from ordersbehind.checks import first_bad_thing, is_several, is_whole, number_of
 from ordersbehind.classes import class_from, colour_of
 from ordersbehind.colourwood import knot_colours
 from ordersbehind.errors import BadWays, NoOrders, TooMany
-from ordersbehind.forcing import check_tied
 from ordersbehind.orders import Order, check_behind, is_behind
 from ordersbehind.ranks import rank_of, row_with_rank
 from ordersbehind.rings import odd_ring
@@ -68,7 +67,6 @@ class Behind:
         """True if the order has the least tie of the tie's colour with the lesser thing below."""
         tie = pair_of(self.web.size, tie)
         check_behind(order, self.web)
-        check_tied(self.web, tie)
         return colour_of(self.web, tie)[0] in order
 
     def by_number(self):

@@ -8,7 +8,8 @@ def class_from(web, arrow):
     found = {arrow: True}
     waiting = [arrow]
     while waiting:
-        for step in forced_from(web, waiting.pop()):
+        member = waiting.pop()
+        for step in forced_from(web, member):
             if step not in found:
                 found[step] = True
                 waiting.append(step)

@@ -15,7 +15,8 @@ def ties_between(one, other):
 def pairs_of_children(knot):
     """The ties between each two children of the knot, by the least ties."""
     lots = knot.children
-    return sorted([ties_between(one, other) for place, one in enumerate(lots) for other in lots[place + 1:]])
+    # The least things of the children ascend, so the children's numbers give the sequence of the least ties.
+    return [ties_between(one, other) for place, one in enumerate(lots) for other in lots[place + 1:]]
 
 
 def knot_colours(wood, number):

@@ -81,7 +81,7 @@ def is_odd_ring(web, things):
     ring = list(things)
     after = ring[1:] + ring[:1]
     next_but_one = ring[2:] + ring[:2]
-    return all([has_thing(web.masks[b], a) and has_thing(web.masks[b], c) and not has_thing(web.masks[a], c)
+    return all([has_thing(web.masks[a], b) and not has_thing(web.masks[a], c)
                 for a, b, c in zip(ring, after, next_but_one)])
 
 

@@ -87,7 +87,8 @@ class OddRingTest(Case):
 class IsOddRingTest(Case):
 
     def test_short_sequences(self):
-        for told in (FIVE, (3, ((0, 1), (0, 2), (1, 2))), (4, ((0, 1), (0, 3), (1, 2), (2, 3)))):
+        house = (5, FIVE[1] + ((1, 4),))
+        for told in (FIVE, house, (3, ((0, 1), (0, 2), (1, 2))), (4, ((0, 1), (0, 3), (1, 2), (2, 3)))):
             w, look = Web(*told), Look(*told)
             for many in (1, 2, 3, 4, 5):
                 for things in product(range(told[0]), repeat=many):
@@ -105,6 +106,15 @@ class IsOddRingTest(Case):
             self.same(is_odd_ring(Web(*FIVE), ring), False)
         self.same(is_odd_ring(Web.full(5), (0, 1, 2, 3, 4)), False)
         self.same(is_odd_ring(Web.full(3), (0, 1, 2)), False)
+
+    def test_spoilt_at_one_place(self):
+        # A tie that is missing, or one that should not be, at each place of a ring of seven.
+        for a in range(7):
+            b, c = (a + 1) % 7, (a + 2) % 7
+            missing = [tie for tie in SEVEN[1] if set(tie) != {a, b}]
+            self.same(is_odd_ring(Web(7, missing), tuple(range(7))), False)
+            self.same(is_odd_ring(Web(7, SEVEN[1] + ((a, c),)), tuple(range(7))), False)
+            self.same(is_odd_ring(Web(7, SEVEN[1] + ((a, (a + 3) % 7),)), tuple(range(7))), True)
 
     def test_other_values(self):
         for value in strange_wholes() + [(), [], "01234", {0, 1, 2, 3, 4}, range(5)]:

@@ -87,6 +87,23 @@ class ReadingTest(Case):
             self.both(2, f"things 12\ntie {digit} 0")
             self.both(2, f"things 12\ntie 0 1{digit}")
 
+    def test_every_sign(self):
+        for code in range(256):
+            sign = chr(code)
+            if sign not in "0123456789\n":
+                for word in (sign, "1" + sign, sign + "1"):
+                    for line in (f"tie 1 {word}", f"tie {word} 1", f"tie 2 {word}", f"tie {word} 0"):
+                        self.both(2, "things 12\n" + line + "\ntie 0 3\n")
+                    self.both(1, f"things {word}")
+                self.both(2, f"things 12\ntie{sign}{sign}0 1\n")
+                self.both(2, f"things 12\ntie 0 1{sign}{sign}")
+
+    def test_bad_numbers_beside_any_thing(self):
+        for word in ("", "a", "-1", "+1", "00", "01", "1.", "12", "40", "100", "1" * 5000):
+            for thing in range(12):
+                self.both(2, f"things 12\ntie {thing} {word}\n")
+                self.both(2, f"things 12\ntie {word} {thing}\n")
+
     def test_word_of_the_other(self):
         self.told(BadText, {"line": 2}, web_from, "things 3\nbelow 0 1\n")
         self.told(BadText, {"line": 2}, order_from, "things 3\ntie 0 1\n")
