@@ -42,24 +42,20 @@ def colour_place(wood, tie):
     return knot.number, min(one, other), max(one, other)
 
 
+def firm_and_full(wood):
+    """The number of the firm knots, and how many children each full knot has."""
+    firm = [knot for knot in wood.knots if knot.kind == Wood.FIRM]
+    return len(firm), [len(knot.children) for knot in wood.knots if knot.kind == Wood.FULL]
+
+
 def count_colours(wood):
-    many = 0
-    for knot in wood.knots:
-        if knot.kind == Wood.FIRM:
-            many = many + 1
-        if knot.kind == Wood.FULL:
-            many = many + len(knot.children) * (len(knot.children) - 1) // 2
-    return many
+    firm, full = firm_and_full(wood)
+    return firm + sum([many * (many - 1) // 2 for many in full])
 
 
 def count_loose(wood):
-    many = 0
-    for knot in wood.knots:
-        if knot.kind == Wood.FIRM:
-            many = many + 1
-        if knot.kind == Wood.FULL:
-            many = many + len(knot.children) - 1
-    return many
+    firm, full = firm_and_full(wood)
+    return firm + sum([many - 1 for many in full])
 
 
 def odd_knots(wood):

@@ -11,7 +11,7 @@ SHORTEST_RING = 5
 def odd_ring(web, *, tie=None):
     """A shortest odd ring, of the tie's colour if a tie is told; None if there is none."""
     found = [colour_of(web, tie)] if tie is not None else colours(web)
-    # A shortest ring has no two things alike together with the things behind them: so many at most.
+    # In a shortest ring no thing has the same next thing twice: a shorter odd ring would lie between the two places.
     most = 2 * len(web.ties)
     best = None
     for start in [arrow for ties in found if is_odd(web, ties[0]) for arrow in ties]:

@@ -140,18 +140,23 @@ class Look:
         return all(self.tied(things[i], things[(i + 1) % many])
                    and not self.tied(things[i], things[(i + 2) % many]) for i in range(many))
 
-    def least_ring(self, ties):
-        """The least number of things of an odd ring whose ties are among the ties, None if there is none."""
+    def ring_sizes(self, ties, most):
+        """The numbers of things, at most so many, of the odd rings whose ties are among the ties, ascending."""
         allowed = {frozenset(tie) for tie in ties}
         starts = [arrow for arrow in self.arrows() if frozenset(arrow) in allowed]
         reached = {arrow: {arrow} for arrow in starts}
-        for many in range(1, 2 * len(self.ties) + 3):
+        found = []
+        for many in range(1, most + 1):
             for start in starts:
                 reached[start] = {(b, c) for a, b in reached[start] for c in self.things
                                   if frozenset((b, c)) in allowed and not self.tied(a, c)}
             if many % 2 == 1 and any(start in reached[start] for start in starts):
-                return many
-        return None
+                found.append(many)
+        return found
+
+    def least_ring(self, ties):
+        """The least number of things of an odd ring whose ties are among the ties, None if there is none."""
+        return min(self.ring_sizes(ties, 2 * len(self.ties) + 2), default=None)
 
     def splitter(self, lot):
         for thing in self.things:

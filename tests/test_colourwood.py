@@ -140,6 +140,16 @@ class OddTest(Case):
         for told in (PATH, HAT, LONE, MIXED, (3, ()), (1, ()), (3, ((0, 1), (0, 2), (1, 2)))):
             self.same(odd_knots(Wood(Web(*told))), ())
 
+    def test_sizes_of_rings(self):
+        for told in [FIVE, NET, HAT, LONE] + list(some_webs(15, 30, (5, 6, 7))):
+            x, look = Wood(Web(*told)), Look(*told)
+            below = set()
+            for knot in x.knots:
+                if knot.kind == "firm":
+                    q = quotient(x, knot.number)
+                    below |= set(Look(len(q), q.ties).ring_sizes(q.ties, 13))
+            self.assertEqual(look.ring_sizes(look.ties, 13), sorted(below))
+
     def test_ring_below(self):
         told = list(some_webs(13, 60, (6, 7, 8))) + [FIVE, NET, ODD]
         for size, ties in told:
