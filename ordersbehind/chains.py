@@ -1,8 +1,7 @@
 """Chains: sequences of arrows in which each forces the next one or is equal to it."""
 
-from ordersbehind.checks import is_pair, is_several
+from ordersbehind.checks import is_several
 from ordersbehind.forcing import forced_from, two_arrows_of
-from ordersbehind.masks import has_thing
 
 
 def chain(web, first, last):
@@ -30,16 +29,11 @@ def path_from(onward, first):
     return tuple(path)
 
 
-def is_arrow(web, value):
-    """True if the value is a list or tuple of two tied things."""
-    return is_pair(web.size, value) and has_thing(web.masks[value[0]], value[1])
-
-
 def is_chain(web, arrows):
     """True if the value is a list or tuple that is a chain of the web."""
     if not is_several(arrows) or len(arrows) == 0:
         return False
-    if not all([is_arrow(web, arrow) for arrow in arrows]):
+    if not all([arrow in web for arrow in arrows]):
         return False
     path = [(first, second) for first, second in arrows]
     return all([one == other or other in forced_from(web, one) for one, other in zip(path, path[1:])])
