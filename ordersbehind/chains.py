@@ -12,7 +12,7 @@ def chain(web, first, last):
     layer = [last]
     while layer and first not in onward:
         coming = []
-        for arrow in layer:
+        for arrow in list(layer):
             for step in forced_from(web, arrow):
                 if step not in onward:
                     onward[step] = arrow

@@ -144,6 +144,122 @@ class StatementsTest(unittest.TestCase):
                 self.assertTrue(ast.unparse(node.body[-1]).startswith("return len("), name)
 
 
+CHANGING = set("append clear extend insert pop remove reverse setdefault update add discard sort".split())
+ITERATORS = set("enumerate zip reversed list tuple sorted items keys values".split())
+
+
+def functions():
+    return nodes(ast.FunctionDef)
+
+
+def path_of(node):
+    """The name, or the name and attributes, that an expression consists of; None for other expressions."""
+    if isinstance(node, ast.Name):
+        return node.id
+    if isinstance(node, ast.Attribute):
+        ahead = path_of(node.value)
+        return None if ahead is None else ahead + "." + node.attr
+    return None
+
+
+def root_of(node):
+    """What an expression with items is an item of."""
+    while isinstance(node, ast.Subscript):
+        node = node.value
+    return path_of(node)
+
+
+def chosen(node):
+    """The expressions of which the value is one."""
+    if isinstance(node, ast.IfExp):
+        return chosen(node.body) + chosen(node.orelse)
+    if isinstance(node, ast.BoolOp):
+        return [one for value in node.values for one in chosen(value)]
+    return [node]
+
+
+def walked(node):
+    """What a loop over the expression goes over by its names; a list made in the head of the loop is nobody's."""
+    found = set()
+    for one in chosen(node):
+        if isinstance(one, ast.Call) and isinstance(one.func, ast.Name) and one.func.id in ("enumerate", "zip", "reversed"):
+            found |= {path for value in one.args for path in walked(value)}
+        elif isinstance(one, ast.Call) and isinstance(one.func, ast.Attribute) and one.func.attr in ITERATORS:
+            found |= walked(one.func.value)
+        elif root_of(one) is not None:
+            found.add(root_of(one))
+    return found
+
+
+def changed(statements):
+    """What the statements change, by its names."""
+    found = set()
+    for top in statements:
+        for node in ast.walk(top):
+            if isinstance(node, ast.Call) and isinstance(node.func, ast.Attribute) and node.func.attr in CHANGING:
+                found.add(root_of(node.func.value))
+            elif isinstance(node, ast.Subscript) and not isinstance(node.ctx, ast.Load):
+                found.add(root_of(node))
+            elif isinstance(node, ast.AugAssign):
+                found.add(root_of(node.target))
+    return found - {None}
+
+
+def one_and_the_same(function):
+    """Groups of names that the function gives one value, whatever comes first."""
+    groups = []
+    for node in ast.walk(function):
+        if isinstance(node, ast.Assign):
+            paths = {path_of(one) for one in node.targets + chosen(node.value)} - {None}
+            met = [group for group in groups if group & paths]
+            groups = [group for group in groups if group not in met] + [paths.union(*met)]
+    return groups
+
+
+class LoopsTest(unittest.TestCase):
+
+    def wrong_rows(self, function):
+        """The rows of loops that go over what they change."""
+        groups = one_and_the_same(function)
+        heads = [(node.lineno, node.iter, node.body + node.orelse) for node in ast.walk(function)
+                 if isinstance(node, ast.For)]
+        heads += [(node.elt.lineno, one.iter, [node.elt] + [test for other in node.generators for test in other.ifs])
+                  for node in ast.walk(function) if isinstance(node, (ast.ListComp, ast.SetComp))
+                  for one in node.generators]
+        rows = []
+        for row, head, body in heads:
+            over = walked(head)
+            over = over.union(*[group for group in groups if group & over])
+            if over & changed(body):
+                rows.append(row)
+        return rows
+
+    def test_nothing_is_changed_while_it_is_walked(self):
+        for name, function in functions():
+            self.assertEqual(self.wrong_rows(function), [], (name, function.name))
+
+    def test_the_test(self):
+        for text, wrong in (("for a in xs:\n  ys.append(a)\n xs = ys", True), ("for a in xs:\n  ys.append(a)", False),
+                            ("for a in list(xs):\n  ys.append(a)\n xs = ys", False), ("for a in xs:\n  xs[0] = a", True),
+                            ("for i, a in enumerate(xs[1:]):\n  xs.pop()", True), ("for a in p.xs:\n  p.xs.pop()", True),
+                            ("for a in xs or ys:\n  del ys[0]", True), ("zs = xs if a else ys\n for a in zs:\n  ys += [1]", True),
+                            ("zs = [xs.pop() for a in xs]", True), ("for a in d.items():\n  d.clear()", True)):
+            rows = self.wrong_rows(ast.parse("def f(xs, ys, d, p):\n " + text).body[0])
+            self.assertEqual(bool(rows), wrong, text)
+
+    def test_generators(self):
+        """The interface itself has several generators called by_number; no other generator's name is used twice."""
+        yielding = [node for _, node in functions() if any(isinstance(one, (ast.Yield, ast.YieldFrom))
+                                                           for one in ast.walk(node))]
+        every = [node.name for _, node in functions()]
+        for node in yielding:
+            self.assertNotIn(node.name, METHODS)
+            if node.name != "by_number":
+                self.assertEqual(every.count(node.name), 1, node.name)
+        self.assertEqual([node.name for _, node in functions() if node.name == "by_number"],
+                         [node.name for node in yielding if node.name == "by_number"])
+
+
 class NamesTest(unittest.TestCase):
 
     def test_builtins(self):
