@@ -62,6 +62,13 @@ def row_of(size, things):
     return tuple(things)
 
 
+def any_row_of(things):
+    """The row as a tuple, of as many things as it has entries."""
+    if not is_several(things) or len(things) < 1 or len(things) > MOST_THINGS:
+        raise BadRow(-1)
+    return row_of(len(things), things)
+
+
 def pair_of(size, pair):
     """The pair as a tuple, its things as passed."""
     if not is_pair(size, pair):

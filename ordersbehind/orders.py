@@ -1,7 +1,7 @@
 """Orders: which things are below which others."""
 
-from ordersbehind.checks import MOST_THINGS, arrows_of, is_pair, is_several, lot_of, number_of_kind, row_of, thing_of
-from ordersbehind.errors import BadRow, NotBehind, NotClosed
+from ordersbehind.checks import MOST_THINGS, any_row_of, arrows_of, is_pair, lot_of, number_of_kind, row_of, thing_of
+from ordersbehind.errors import NotBehind, NotClosed
 from ordersbehind.masks import has_thing, least_in, masks_of_pairs, things_in
 from ordersbehind.pairs import all_but, pairs_between, pairs_moved, pairs_on, pairs_renamed
 from ordersbehind.webs import Web
@@ -36,9 +36,7 @@ class Order:
     @classmethod
     def along(cls, row):
         """The order in which each thing is below all things behind it in the row."""
-        if not is_several(row) or len(row) < 1 or len(row) > MOST_THINGS:
-            raise BadRow(-1)
-        row = row_of(len(row), row)
+        row = any_row_of(row)
         return cls(len(row), [(thing, later) for place, thing in enumerate(row) for later in row[place + 1:]])
 
     def has(self, first, second):

@@ -2,7 +2,7 @@
 
 
 def pairs_on(pairs, lot):
-    """The pairs inside the lot, which is ascending, its things called 0, 1 and so on."""
+    """The pairs between the things of the lot, which are called 0, 1 and so on in their sequence."""
     places = {thing: place for place, thing in enumerate(lot)}
     return [(places[first], places[second]) for first, second in pairs if first in places and second in places]
 

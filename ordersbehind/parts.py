@@ -1,7 +1,7 @@
 """Parts: lots that each outside thing is tied to as a whole or not at all."""
 
 from ordersbehind.checks import lot_of
-from ordersbehind.errors import TooMany
+from ordersbehind.errors import NotPart, TooMany
 from ordersbehind.masks import all_of, least_in, mask_of, things_in
 
 MOST_LISTED = 12
@@ -40,6 +40,15 @@ def splitter(web, lot):
 
 def is_part(web, lot):
     return splitter(web, lot) is None
+
+
+def part_of(web, lot):
+    """The part, ascending. Raises NotPart if the lot is none."""
+    lot = lot_of(web.size, lot)
+    thing = splitter(web, lot)
+    if thing is not None:
+        raise NotPart(thing)
+    return lot
 
 
 def part_with(web, lot):

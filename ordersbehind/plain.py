@@ -4,6 +4,7 @@ from ordersbehind.checks import row_of
 from ordersbehind.errors import TooMany
 from ordersbehind.masks import has_thing, masks_of_pairs
 from ordersbehind.orders import Order, first_gap
+from ordersbehind.ranks import places_in
 
 MOST_TIES = 12
 
@@ -52,5 +53,5 @@ def fits(web, row):
 def turned_by(web, row):
     """The order of the arrows along the row."""
     row = row_of(web.size, row)
-    places = {thing: place for place, thing in enumerate(row)}
+    places = places_in(row)
     return Order(web.size, [(a, b) if places[a] < places[b] else (b, a) for a, b in web.ties])

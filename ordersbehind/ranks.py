@@ -1,4 +1,4 @@
-"""Rows of 0 to k - 1 by number: they are numbered from 0 in ascending order."""
+"""Rows of 0 to k - 1: by number, numbered from 0 in ascending order, and by the places of their entries."""
 
 from math import factorial
 
@@ -22,3 +22,11 @@ def row_with_rank(many, rank):
         row.append(left[place])
         left = left[:place] + left[place + 1:]
     return tuple(row)
+
+
+def places_in(row):
+    """For each entry, from 0 on, its place in the row, a tuple; of such places it gives back the row."""
+    places = [0] * len(row)
+    for place, entry in enumerate(row):
+        places[entry] = place
+    return tuple(places)

@@ -4,6 +4,7 @@ Nothing here uses the package. A web is told as its size and its ties, lesser th
 """
 
 import random
+from functools import lru_cache
 from itertools import combinations, permutations, product
 
 PATH = (4, ((0, 1), (1, 2), (2, 3)))
@@ -69,6 +70,32 @@ def middling_webs():
     yield from (FIVE, NET, HAT, LONE, MIXED)
     yield from some_webs(7, 120, (5, 6, 7))
     yield from nested_webs(8, 60, 8)
+
+
+@lru_cache(maxsize=None)
+def orders_of(size, ties):
+    """The arrows of all orders behind a web, ascending."""
+    return tuple(Look(size, ties).orders())
+
+
+@lru_cache(maxsize=None)
+def webs_with_orders(most=9):
+    """Some webs of at most so many ties that have orders behind them: each web, and the arrows of all its orders."""
+    told = list(middling_webs()) + list(every_web(5))[::29] + [(4, tuple(all_pairs(4)))]
+    told += [(6, ((0, 1), (0, 2), (1, 2), (3, 4), (3, 5), (4, 5)))]
+    told += [(6, ((0, 4), (0, 5), (1, 4), (1, 5), (2, 4), (2, 5), (4, 5)))]
+    found = [(web, orders_of(*web)) for web in dict.fromkeys(told) if len(web[1]) <= most]
+    return [(web, orders) for web, orders in found if orders]
+
+
+def every_lot(size, least=1):
+    """All lots of the things, from so many things on."""
+    return [lot for many in range(least, size + 1) for lot in combinations(range(size), many)]
+
+
+def turned_back(arrows):
+    """The contrary arrows, ascending."""
+    return tuple(sorted((b, a) for a, b in arrows))
 
 
 class Look:
@@ -168,6 +195,7 @@ class Look:
         lots = [lot for many in range(1, self.size + 1) for lot in combinations(self.things, many)]
         return sorted(lot for lot in lots if self.splitter(lot) is None)
 
+    @lru_cache(maxsize=None)
     def strong(self):
         """The strong parts of two things or more, in the sequence of the knots, then the single things."""
         parts = self.parts()
@@ -184,6 +212,21 @@ class Look:
         children = self.children(lot)
         ties = [self.tied(a, b) for one, other in combinations(children, 2) for a in one for b in other]
         return "full" if all(ties) else "firm" if any(ties) else "free"
+
+    def parting(self, a, b):
+        """The smallest strong part that has both things."""
+        return [lot for lot in self.knots() if a in lot and b in lot][-1]
+
+    def knots(self):
+        return [lot for lot in self.strong() if len(lot) > 1]
+
+    def union(self, part):
+        """The kind of a knot and the numbers j and k, if the part is made of j of its k children, 1 < j < k."""
+        if part in self.strong():
+            return None
+        knot = [lot for lot in self.knots() if set(part) <= set(lot)][-1]
+        children = self.children(knot)
+        return self.kind(knot), sum(child[0] in part for child in children), len(children)
 
     def pieces(self):
         found = []

@@ -7,12 +7,21 @@ from ordersbehind.chains import chain
 from ordersbehind.choices import choice_text, next_ways
 from ordersbehind.classes import class_of, same_class, touched
 from ordersbehind.colourwood import colour_place, count_loose, knot_colours
-from ordersbehind.errors import BadText, NotTied
+from ordersbehind.counts import share_of_parts
+from ordersbehind.errors import BadText, NotLoose, NotTied
+from ordersbehind.flips import distance, flip, loose
 from ordersbehind.forcing import forced_by
+from ordersbehind.middles import count_between, share_as_part
+from ordersbehind.orders import Order
+from ordersbehind.pins import is_pin
 from ordersbehind.plain import all_behind, misfit, turned_by
 from ordersbehind.rings import is_odd_ring, odd_ring, ring_chain
+from ordersbehind.shares import both, middle_counts, together
 from ordersbehind.texts import order_from
+from ordersbehind.turns import crossing_thing
+from ordersbehind.walks import asked, asked_cost
 from ordersbehind.webs import Web
+from ordersbehind.wishes import count_held, held, is_forced_ring, row_count, settled
 from ordersbehind.wood import Wood, count_parts
 from tests.case import Case
 
@@ -74,8 +83,43 @@ class ExamplesTest(Case):
 
     def test_choices(self):
         b = Behind(Web(*HAT))
-        self.same([next_ways(b, [(0, 1), 1]), choice_text(b, ((1, 0), 0))],
-                  [((1, 0), 0), "0 1 2 3 4 full 1 0\n0 1 2 3 firm 0\n"])
+        self.same([next_ways(b, [(0, 1), 1]), choice_text(b, ((1, 0), 0)), share_of_parts(Web.full(3), [2, 0])],
+                  [((1, 0), 0), "0 1 2 3 4 full 1 0\n0 1 2 3 firm 0\n", (2, 2, 6, 4)])
+
+    def test_flips(self):
+        b = Behind(Web(*HAT))
+        p = b.at(0)
+        self.same([p.arrows, loose(b, p), flip(b, p, (3, 2)).arrows, distance(b, p, ~p)],
+                  [((0, 1), (0, 4), (1, 4), (2, 1), (2, 3), (2, 4), (3, 4)), ((0, 1), (0, 4)),
+                   ((0, 4), (1, 0), (1, 2), (1, 4), (2, 4), (3, 2), (3, 4)), 2])
+        self.told(NotLoose, {"first": 0, "second": 2}, flip, Behind(Web.full(3)), Order.along([0, 1, 2]), [2, 0])
+
+    def test_walks(self):
+        b = Behind(Web(4, [(0, 2), (1, 2), (0, 3), (1, 3), (2, 3)]))
+        p = b.at(0)
+        self.same([p.arrows, asked(b, p, (3, 0)).arrows, asked_cost(b, p, (3, 0))],
+                  [((0, 2), (0, 3), (1, 2), (1, 3), (2, 3)), ((0, 2), (1, 2), (3, 0), (3, 1), (3, 2)), (2, 3)])
+
+    def test_turns_pins_middles(self):
+        b = Behind(Web.full(3))
+        p, q = Order.along([0, 1, 2]), Order.along([2, 0, 1])
+        self.same([crossing_thing(p, (0, 2)), is_pin(b, p, [(1, 2), (0, 1)]), count_between(b, p, q),
+                   share_as_part(b, (0, 1))], [1, True, 3, (4, 6)])
+
+    def test_wishes(self):
+        w = Web(*HAT)
+        b = Behind(w)
+        ring = [[(3, 2)], [(0, 1), (2, 1), (2, 3)]]
+        self.same([held(b, [(4, 0), (3, 2)]).arrows, held(b, [(0, 1), (3, 2)]),
+                   is_forced_ring(w, [(0, 1), (3, 2)], ring)],
+                  [((1, 0), (1, 2), (3, 2), (4, 0), (4, 1), (4, 2), (4, 3)), None, True])
+        self.same([count_held(b, [(4, 0)]), settled(b, [(0, 1)]), row_count(4, [(0, 1), (0, 2)])],
+                  [2, ((0, 1), (2, 1), (2, 3)), 8])
+
+    def test_shares(self):
+        b, c = Behind(Web(*HAT)), Behind(Web.full(3))
+        self.same([both(c, (0, 1), (0, 2)), together(c, (0, 1), (1, 2)), middle_counts(c, 2, 0, 1),
+                   middle_counts(b, 0, 1, 4)], [(1, 3), (1, 3), (2, 2, 2), (2, 2, 0)])
 
 
 if __name__ == "__main__":

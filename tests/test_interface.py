@@ -23,6 +23,22 @@ FUNCTIONS = {
                    "odd_knots(wood)", "ring_below(wood, ring)", "lots_by_colours(web)"],
     "choices": ["first_ways(behind)", "next_ways(behind, ways)", "contrary_ways(behind, ways)",
                 "with_arrow(behind, arrow)", "only_contraries(web)", "choice_text(behind, ways)"],
+    "counts": ["count_orders(web)", "has_orders(web)", "made_one(web, lot)", "share_of_parts(web, lot)"],
+    "flips": ["loose(behind, order)", "is_loose(behind, order, tie)", "flip(behind, order, tie)",
+              "differing(behind, one, other)", "distance(behind, one, other)"],
+    "walks": ["walk(behind, one, other)", "flip_walk(behind)", "flips_of(behind, orders)",
+              "asked(behind, order, arrow)", "asked_cost(behind, order, arrow)"],
+    "turns": ["crossing_thing(order, lot)", "is_part_of(order, lot)", "turn(order, lot)", "same_web(one, other)",
+              "turns(one, other)", "turned_along(order, lots)"],
+    "pins": ["is_pin(behind, order, arrows)", "pin(behind, order)", "count_pins(behind, order)",
+             "tells_apart(behind, ties)"],
+    "middles": ["is_between(behind, one, order, other)", "count_between(behind, one, other)",
+                "middle(behind, one, two, three)", "share_as_part(behind, lot)"],
+    "wishes": ["held(behind, arrows, *, last=False)", "forced_ring(behind, arrows)",
+               "is_forced_ring(web, arrows, chains)", "count_held(behind, arrows)", "settled(behind, arrows)",
+               "row_count(many, pairs)"],
+    "shares": ["both(behind, one, other)", "together(behind, one, other)", "middle_kind(web, first, second, third)",
+               "middle_counts(behind, first, second, third)"],
 }
 
 METHODS = {

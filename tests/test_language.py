@@ -145,7 +145,8 @@ class StatementsTest(unittest.TestCase):
 
 
 CHANGING = set("append clear extend insert pop remove reverse setdefault update add discard sort".split())
-ITERATORS = set("enumerate zip reversed list tuple sorted items keys values".split())
+VIEWS = set("items keys values".split())
+WALKERS = set("enumerate zip reversed".split())
 
 
 def functions():
@@ -182,9 +183,9 @@ def walked(node):
     """What a loop over the expression goes over by its names; a list made in the head of the loop is nobody's."""
     found = set()
     for one in chosen(node):
-        if isinstance(one, ast.Call) and isinstance(one.func, ast.Name) and one.func.id in ("enumerate", "zip", "reversed"):
+        if isinstance(one, ast.Call) and isinstance(one.func, ast.Name) and one.func.id in WALKERS:
             found |= {path for value in one.args for path in walked(value)}
-        elif isinstance(one, ast.Call) and isinstance(one.func, ast.Attribute) and one.func.attr in ITERATORS:
+        elif isinstance(one, ast.Call) and isinstance(one.func, ast.Attribute) and one.func.attr in VIEWS:
             found |= walked(one.func.value)
         elif root_of(one) is not None:
             found.add(root_of(one))
@@ -239,11 +240,16 @@ class LoopsTest(unittest.TestCase):
             self.assertEqual(self.wrong_rows(function), [], (name, function.name))
 
     def test_the_test(self):
-        for text, wrong in (("for a in xs:\n  ys.append(a)\n xs = ys", True), ("for a in xs:\n  ys.append(a)", False),
-                            ("for a in list(xs):\n  ys.append(a)\n xs = ys", False), ("for a in xs:\n  xs[0] = a", True),
-                            ("for i, a in enumerate(xs[1:]):\n  xs.pop()", True), ("for a in p.xs:\n  p.xs.pop()", True),
-                            ("for a in xs or ys:\n  del ys[0]", True), ("zs = xs if a else ys\n for a in zs:\n  ys += [1]", True),
-                            ("zs = [xs.pop() for a in xs]", True), ("for a in d.items():\n  d.clear()", True)):
+        for text, wrong in (("for a in xs:\n  ys.append(a)\n xs = ys", True),
+                            ("for a in xs:\n  ys.append(a)", False),
+                            ("for a in list(xs):\n  ys.append(a)\n xs = ys", False),
+                            ("for a in xs:\n  xs[0] = a", True),
+                            ("for i, a in enumerate(xs[1:]):\n  xs.pop()", True),
+                            ("for a in p.xs:\n  p.xs.pop()", True),
+                            ("for a in xs or ys:\n  del ys[0]", True),
+                            ("zs = xs if a else ys\n for a in zs:\n  ys += [1]", True),
+                            ("zs = [xs.pop() for a in xs]", True),
+                            ("for a in d.items():\n  d.clear()", True)):
             rows = self.wrong_rows(ast.parse("def f(xs, ys, d, p):\n " + text).body[0])
             self.assertEqual(bool(rows), wrong, text)
 
