@@ -4,7 +4,7 @@ from ordersbehind.classes import colours, ends_of
 from ordersbehind.forcing import arrow_of
 from ordersbehind.masks import mask_of, things_in
 from ordersbehind.rings import odd_ring, ring_of
-from ordersbehind.wood import Wood, knot_number, quotient
+from ordersbehind.wood import Wood, in_sequence, knot_number, quotient
 
 
 def ties_between(one, other):
@@ -95,5 +95,5 @@ def unions_of_heaps(lots):
 def lots_by_colours(web):
     """The lots of the wood, computed from the colours of the web and of its contrary."""
     found = sorted({mask_of(ends_of(ties)) for ties in colours(web) + colours(~web)})
-    knots = sorted([things_in(union) for union in unions_of_heaps(found)], key=lambda lot: (-len(lot), lot))
-    return tuple(knots + [(thing,) for thing in range(web.size)])
+    return in_sequence([things_in(union) for union in unions_of_heaps(found)]
+                       + [(thing,) for thing in range(web.size)])

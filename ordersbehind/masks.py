@@ -44,6 +44,20 @@ def masks_of_pairs(size, pairs):
     return tuple(masks)
 
 
+def least_unlike(masks, others):
+    """The least pair that one of the two lists of masks tells alone, (-1, -1) if they are not equally long.
+
+    Each of them tells with (a, b) also (b, a). None if they are alike.
+    """
+    if len(masks) != len(others):
+        return -1, -1
+    for first, (mask, other) in enumerate(zip(masks, others)):
+        # A lesser first thing would have told of this pair already, so the least second one is behind first.
+        if mask != other:
+            return first, least_in(mask ^ other)
+    return None
+
+
 def contrary_masks(masks):
     """For each thing the mask of all other things that are not in its mask."""
     everything = all_of(len(masks))

@@ -2,7 +2,7 @@
 
 from ordersbehind.checks import MOST_THINGS, any_row_of, arrows_of, is_pair, lot_of, number_of_kind, row_of, thing_of
 from ordersbehind.errors import NotBehind, NotClosed
-from ordersbehind.masks import has_thing, least_in, masks_of_pairs, things_in
+from ordersbehind.masks import has_thing, least_in, least_unlike, masks_of_pairs, things_in
 from ordersbehind.pairs import all_but, pairs_between, pairs_moved, pairs_on, pairs_renamed
 from ordersbehind.webs import Web
 
@@ -96,15 +96,8 @@ def web_of(order):
 
 
 def unlike_pair(order, web):
-    """The least pair that is tied in one of the web and the order's web alone, None if there is none."""
-    if order.size != web.size:
-        return -1, -1
-    for first, mask in enumerate(web.masks):
-        unlike = (order.ups[first] | order.downs[first]) ^ mask
-        # A lesser first thing would have told of this pair already, so the least one is behind first.
-        if unlike:
-            return first, least_in(unlike)
-    return None
+    """The least pair that is tied in one of the web and the order's web alone, None if the order is behind the web."""
+    return least_unlike([above | below for above, below in zip(order.ups, order.downs)], web.masks)
 
 
 def is_behind(order, web):

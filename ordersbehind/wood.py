@@ -84,6 +84,11 @@ class Wood:
         return iter(self.knots)
 
 
+def in_sequence(lots):
+    """Lots of a wood, tuples, in the sequence of the method lots."""
+    return tuple(sorted(lots, key=lambda lot: (-len(lot), lot)))
+
+
 def knots_told(web):
     """The lots, kinds and children of the knots, in the sequence of their numbers."""
     found = []

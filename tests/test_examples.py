@@ -3,14 +3,19 @@
 import unittest
 
 from ordersbehind.behind import Behind
+from ordersbehind.bottoms import bottom_order, bottoms_in_all, count_bottoms, count_ends
+from ordersbehind.carrying import carried
 from ordersbehind.chains import chain
 from ordersbehind.choices import choice_text, next_ways
 from ordersbehind.classes import class_of, same_class, touched
 from ordersbehind.colourwood import colour_place, count_loose, knot_colours
 from ordersbehind.counts import share_of_parts
-from ordersbehind.errors import BadText, NotLoose, NotTied
+from ordersbehind.drawings import Drawings
+from ordersbehind.errors import BadText, NoRows, NotLoose, NotTied
+from ordersbehind.fitting import order_and_line
 from ordersbehind.flips import distance, flip, loose
 from ordersbehind.forcing import forced_by
+from ordersbehind.lines import jump_counts
 from ordersbehind.middles import count_between, share_as_part
 from ordersbehind.orders import Order
 from ordersbehind.pins import is_pin
@@ -19,6 +24,7 @@ from ordersbehind.rings import is_odd_ring, odd_ring, ring_chain
 from ordersbehind.shares import both, middle_counts, together
 from ordersbehind.texts import order_from
 from ordersbehind.turns import crossing_thing
+from ordersbehind.unbroken import strong_by_rows, unbroken_lots
 from ordersbehind.walks import asked, asked_cost
 from ordersbehind.webs import Web
 from ordersbehind.wishes import count_held, held, is_forced_ring, row_count, settled
@@ -120,6 +126,28 @@ class ExamplesTest(Case):
         b, c = Behind(Web(*HAT)), Behind(Web.full(3))
         self.same([both(c, (0, 1), (0, 2)), together(c, (0, 1), (1, 2)), middle_counts(c, 2, 0, 1),
                    middle_counts(b, 0, 1, 4)], [(1, 3), (1, 3), (2, 2, 2), (2, 2, 0)])
+
+    def test_bottoms(self):
+        b = Behind(Web(*HAT))
+        self.same([bottom_order(b, [2, 0]).arrows, count_bottoms(b, [2, 0]), bottom_order(b, [0, 3]),
+                   count_ends(b, [0], [4]), bottoms_in_all(b)],
+                  [((0, 1), (0, 4), (1, 4), (2, 1), (2, 3), (2, 4), (3, 4)), 1, None, 1, 6])
+
+    def test_lines(self):
+        self.same(jump_counts(Order(4, [(0, 1), (2, 1), (2, 3)])), (0, 1, 3, 1))
+        self.same(carried(Order(4, [(1, 2)]), [0, 1, 2], [0, 3, 1, 2]), (2, 1, 3, 0))
+        self.same(order_and_line(Behind(Web(4, [(0, 1), (1, 2), (2, 3)])), [2, 3, 0, 1]), (0, 4))
+
+    def test_drawings(self):
+        d = Drawings(Web(4, [(0, 1), (1, 2), (2, 3)]))
+        self.same([d.many, d.rows(0), d.number_of_rows([[0, 2, 1, 3], [1, 0, 3, 2]])],
+                  [4, ((0, 2, 1, 3), (1, 0, 3, 2)), 0])
+        self.told(NoRows, {"contrary": False}, Drawings, Web(5, [(0, 1), (1, 2), (2, 3), (3, 4), (0, 4)]))
+
+    def test_unbroken(self):
+        rows = ((0, 1, 2, 3), (1, 0, 3, 2))
+        self.same([unbroken_lots(rows), strong_by_rows(rows)[:3]],
+                  [((0,), (0, 1), (0, 1, 2, 3), (1,), (2,), (2, 3), (3,)), ((0, 1, 2, 3), (0, 1), (2, 3))])
 
 
 if __name__ == "__main__":

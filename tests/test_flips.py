@@ -74,8 +74,8 @@ class LooseTest(Case):
 
     def test_nothing_tied(self):
         for size in (1, 2, 40):
-            b = Behind(Web(size))
-            self.same((loose(b, b.at(0)), differing(b, b.at(0), Order(size)), distance(b, b.at(0), b.at(0))), ((), (), 0))
+            b, p = Behind(Web(size)), Order(size)
+            self.same((loose(b, p), differing(b, b.at(0), p), distance(b, p, p)), ((), (), 0))
 
     def test_large(self):
         b = Behind(Web.full(40))

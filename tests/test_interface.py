@@ -39,6 +39,20 @@ FUNCTIONS = {
                "row_count(many, pairs)"],
     "shares": ["both(behind, one, other)", "together(behind, one, other)", "middle_kind(web, first, second, third)",
                "middle_counts(behind, first, second, third)"],
+    "bottoms": ["bottom_order(behind, lot)", "bottom_bar(behind, lot)", "count_bottoms(behind, lot)",
+                "ends_order(behind, low, high)", "ends_bar(behind, low, high)", "count_ends(behind, low, high)",
+                "bottoms_in_all(behind)"],
+    "lines": ["in_line(order, row)", "lines_of(order)", "count_lines(order)", "jumps(order, row)",
+              "jump_counts(order)", "words_below(order, sizes)", "count_by_wood(behind)"],
+    "carrying": ["stretches(row, lot)", "carried(order, lot, row)"],
+    "levels": ["is_levelling(order, many, levels, *, strict=True)", "count_levellings(order, many, *, strict=True)",
+               "turned_levels(order, lot, levels)"],
+    "fitting": ["count_fitting(web)", "order_and_line(behind, row)", "fitting_row(behind, number, place)"],
+    "crossings": ["rows_of(rows)", "crossing_web(rows)", "common_part(rows)", "is_drawing(web, rows)",
+                  "fits_both(web, row)", "turned_rows(rows)", "backward_rows(rows)", "contrary_rows(rows)"],
+    "drawings": ["some_drawing(web)", "pair_for(order)", "count_pairs_for(order)"],
+    "unbroken": ["is_unbroken(row, lot)", "unbroken_lots(rows)", "strong_by_rows(rows)",
+                 "count_unbroken(drawings, lot)"],
 }
 
 METHODS = {
@@ -52,6 +66,9 @@ METHODS = {
                   "parent(self, number)"],
     "behind.Behind": ["__init__(self, web)", "order_of(self, ways)", "ways_of(self, order)", "number_of(self, order)",
                       "at(self, number)", "colour_ways(self, order, tie)", "by_number(self)"],
+    "carrying.Carrier": ["__init__(self, one, other)", "__call__(self, row)", "backwards(self)"],
+    "drawings.Drawings": ["__init__(self, web)", "rows(self, number)", "orders_of(self, rows)",
+                          "number_of_rows(self, rows)", "put_together(self, order, other)", "by_number(self)"],
 }
 
 SIGNS = {
@@ -59,6 +76,7 @@ SIGNS = {
     "orders.Order": ["__invert__", "__eq__", "__len__", "__contains__", "__iter__", "__or__", "__and__"],
     "wood.Wood": ["__len__", "__iter__", "__contains__"],
     "behind.Behind": ["__contains__", "__eq__"],
+    "carrying.Carrier": ["__call__", "__eq__"],
 }
 
 DECORATED = {
@@ -66,6 +84,7 @@ DECORATED = {
     "orders.Order": [("along", classmethod)],
     "wood.Wood": [("kinds", staticmethod), ("height", property)],
     "behind.Behind": [("many", property)],
+    "drawings.Drawings": [("many", property)],
 }
 
 
