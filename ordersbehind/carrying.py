@@ -26,7 +26,7 @@ def stretches(row, lot):
 def row_carried(lot, row):
     """The row with the stretches of the lot from the last to the first, each of them written backwards."""
     runs = runs_of(row, lot)
-    backwards = [run[::-1] for run in runs if run[0] in lot][::-1]
+    backwards = [stretch[::-1] for stretch in runs if stretch[0] in lot][::-1]
     met = 0
     found = []
     for run in runs:

@@ -11,7 +11,7 @@ from ordersbehind.standings import count_sides, order_told, stand_of
 
 def demands_of(behind, arrows):
     """The aheads of each knot that chooses; contrary arrows are allowed, and so is an arrow several times."""
-    demands = [[0] * count_sides(behind, place) for place in range(len(behind.places))]
+    demands = [[0] * count_sides(behind, at) for at in range(len(behind.places))]
     for arrow in arrows:
         place, low, high = stand_of(behind, arrow)
         demands[place][high] = demands[place][high] | (1 << low)
