@@ -2,9 +2,9 @@
 
 from ordersbehind.chains import chain
 from ordersbehind.checks import lot_of
-from ordersbehind.demands import order_demanded
+from ordersbehind.demands import clash_in, order_demanded
 from ordersbehind.masks import things_in
-from ordersbehind.standings import count_sides, knot_at, stand_of
+from ordersbehind.standings import count_sides, knot_at
 
 
 def arrows_out(web, lot):
@@ -24,14 +24,11 @@ def order_between(behind, low, high):
 
 def bar_between(behind, low, high):
     """A chain from a wanted arrow to the contrary of one, None if there is none; the lots are good."""
-    known = {}
-    for arrow in arrows_wanted(behind.web, low, high):
-        place, one, other = stand_of(behind, arrow)
-        if (place, other, one) in known:
-            first, second = known[(place, other, one)]
-            return chain(behind.web, arrow, (second, first))
-        known[(place, one, other)] = arrow
-    return None
+    clash = clash_in(behind, arrows_wanted(behind.web, low, high))
+    if clash is None:
+        return None
+    arrow, (first, second) = clash
+    return chain(behind.web, arrow, (second, first))
 
 
 def share_at(behind, place, low, high):

@@ -18,6 +18,17 @@ def demands_of(behind, arrows):
     return demands
 
 
+def clash_in(behind, arrows):
+    """An arrow in whose class the contrary of an earlier one is, and that earlier one; None if there is none."""
+    known = {}
+    for arrow in arrows:
+        place, low, high = stand_of(behind, arrow)
+        if (place, high, low) in known:
+            return arrow, known[(place, high, low)]
+        known[(place, low, high)] = arrow
+    return None
+
+
 def row_demanded(aheads, last):
     """The least row that obeys the aheads, or the greatest if last is True, as far as it can be made."""
     row = []

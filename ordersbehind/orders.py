@@ -95,9 +95,14 @@ def web_of(order):
     return Web(order.size, order.arrows)
 
 
+def tied_in(order):
+    """For each thing the mask of the things that are below or above it."""
+    return [above | below for above, below in zip(order.ups, order.downs)]
+
+
 def unlike_pair(order, web):
     """The least pair that is tied in one of the web and the order's web alone, None if the order is behind the web."""
-    return least_unlike([above | below for above, below in zip(order.ups, order.downs)], web.masks)
+    return least_unlike(tied_in(order), web.masks)
 
 
 def is_behind(order, web):

@@ -10,21 +10,28 @@ from ordersbehind.choices import choice_text, next_ways
 from ordersbehind.classes import class_of, same_class, touched
 from ordersbehind.colourwood import colour_place, count_loose, knot_colours
 from ordersbehind.counts import share_of_parts
+from ordersbehind.crowdrows import CrowdRows, both_ends, count_first
+from ordersbehind.crowds import crowds
 from ordersbehind.drawings import Drawings
-from ordersbehind.errors import BadText, NoRows, NotLoose, NotTied
+from ordersbehind.errors import BadText, NoRows, NoSpans, NotLoose, NotTied
 from ordersbehind.fitting import order_and_line
 from ordersbehind.flips import distance, flip, loose
 from ordersbehind.forcing import forced_by
+from ordersbehind.growing import count_going, goes_on, grown, sides, with_thing
+from ordersbehind.likeness import count_permutations, count_renamings, renaming
 from ordersbehind.lines import jump_counts
 from ordersbehind.middles import count_between, share_as_part
+from ordersbehind.names import order_name, web_name
 from ordersbehind.orders import Order
 from ordersbehind.pins import is_pin
 from ordersbehind.plain import all_behind, misfit, turned_by
 from ordersbehind.rings import is_odd_ring, odd_ring, ring_chain
 from ordersbehind.shares import both, middle_counts, together
+from ordersbehind.spans import span_web, spans_of
 from ordersbehind.texts import order_from
 from ordersbehind.turns import crossing_thing
 from ordersbehind.unbroken import strong_by_rows, unbroken_lots
+from ordersbehind.unlike import permutation_table, unlike_orders
 from ordersbehind.walks import asked, asked_cost
 from ordersbehind.webs import Web
 from ordersbehind.wishes import count_held, held, is_forced_ring, row_count, settled
@@ -148,6 +155,38 @@ class ExamplesTest(Case):
         rows = ((0, 1, 2, 3), (1, 0, 3, 2))
         self.same([unbroken_lots(rows), strong_by_rows(rows)[:3]],
                   [((0,), (0, 1), (0, 1, 2, 3), (1,), (2,), (2, 3), (3,)), ((0, 1, 2, 3), (0, 1), (2, 3))])
+
+    def test_spans(self):
+        w = span_web([(0, 2), (1, 3), (3, 5), [4, 4]])
+        self.same([w.ties, crowds(w), spans_of(Web(4, [(0, 1), (1, 2), (2, 3)]))],
+                  [((0, 1), (1, 2), (2, 3)), ((0, 1), (1, 2), (2, 3)), ((0, 0), (0, 1), (1, 2), (2, 2))])
+        self.told(NoSpans, {"four": (0, 1, 2, 3), "ring": ()}, spans_of, Web(4, [(0, 1), (1, 2), (2, 3), (0, 3)]))
+
+    def test_crowdrows(self):
+        w = Web(4, [(0, 1), (0, 2), (0, 3)])
+        self.same([CrowdRows(w).many, count_first(w, [2, 0]), both_ends(w, [0, 2], [0, 1])],
+                  [6, 2, ((0, 2), (0, 3), (0, 1))])
+
+    def test_names(self):
+        w = Web(4, [(0, 1), (1, 2), (2, 3)])
+        self.same([web_name(w), web_name(w | Web(1)), order_name(Order(4, [(1, 0), (1, 2), (3, 2)]) & Order(2))],
+                  ["<1.3.0.2.>", "(.<1.3.0.2.>)", "[<1.3.0.2.>(..)]"])
+
+    def test_likeness_and_unlike(self):
+        w = Web(4, [(0, 1), (0, 2), (0, 3), (1, 2)])
+        v = w.renamed((2, 0, 3, 1))
+        self.same([w.renamed(renaming(w, v)) == v, count_renamings(w), count_permutations(w), unlike_orders(w)],
+                  [True, 2, 4, (("[(.[..]).]", 2), ("[.(.[..])]", 2))])
+        self.same(permutation_table(3), (("(...)", 1), ("(.[..])", 2), ("[(..).]", 2), ("[...]", 1)))
+
+    def test_growing(self):
+        web = with_thing(Web(4, [(0, 1), (2, 3)]), [2, 1])
+        self.same(goes_on(Order(4, [(0, 1), (2, 3)]), web), ())
+        web = with_thing(Web(2, [(0, 1)]), (0, 1))
+        order = Order(2, [(0, 1)])
+        self.same([sides(order, [1, 0]), count_going(order, web)], [(((), (0, 1)), ((0,), (1,)), ((0, 1), ())), 3])
+        web, number = grown([[], [0], [1], [2], [3, 0]])
+        self.same([web.ties, number], [((0, 1), (0, 4), (1, 2), (2, 3), (3, 4)), 4])
 
 
 if __name__ == "__main__":

@@ -53,6 +53,18 @@ FUNCTIONS = {
     "drawings": ["some_drawing(web)", "pair_for(order)", "count_pairs_for(order)"],
     "unbroken": ["is_unbroken(row, lot)", "unbroken_lots(rows)", "strong_by_rows(rows)",
                  "count_unbroken(drawings, lot)"],
+    "manyrows": ["rows_for(rows, other)", "rows_on(rows, lot)"],
+    "crowds": ["crowds(web)", "is_crowd(web, lot)", "bare_four(web)", "is_bare_four(web, things)"],
+    "spans": ["span_web(spans)", "first_come(spans)", "spans_of(web)", "is_spans(web)"],
+    "crowdrows": ["is_crowd_row(web, row)", "first_crowd(web, crowd)", "first_bar(web, crowd)",
+                  "count_first(web, crowd)", "both_ends(web, one, other)", "count_both_ends(web, one, other)"],
+    "names": ["spelled(rows)", "rows_spelling(places)", "web_name(web)", "order_name(order)"],
+    "likeness": ["alike(one, other)", "renaming(one, other)", "count_renamings(web)", "orders_alike(one, other)",
+                 "order_renaming(one, other)", "count_order_renamings(order)", "count_permutations(web)"],
+    "unlike": ["unlike_orders(web)", "is_like_contrary(order)", "web_like_contrary(web)", "permutation_table(size)"],
+    "growing": ["with_thing(web, near)", "goes_on(order, web)", "count_going(order, web)", "stuck(order, web)",
+                "is_stuck_pair(order, web, one, arrows)", "sides(order, near)", "order_by_sides(order, low, high)",
+                "joined_classes(web)", "grown(nears)"],
 }
 
 METHODS = {
@@ -69,6 +81,8 @@ METHODS = {
     "carrying.Carrier": ["__init__(self, one, other)", "__call__(self, row)", "backwards(self)"],
     "drawings.Drawings": ["__init__(self, web)", "rows(self, number)", "orders_of(self, rows)",
                           "number_of_rows(self, rows)", "put_together(self, order, other)", "by_number(self)"],
+    "crowdrows.CrowdRows": ["__init__(self, web)", "crowd_row(self, order)", "order_of_crowds(self, row)",
+                            "at(self, number)", "number_of(self, row)", "by_number(self)"],
 }
 
 SIGNS = {
@@ -85,6 +99,7 @@ DECORATED = {
     "wood.Wood": [("kinds", staticmethod), ("height", property)],
     "behind.Behind": [("many", property)],
     "drawings.Drawings": [("many", property)],
+    "crowdrows.CrowdRows": [("many", property)],
 }
 
 
