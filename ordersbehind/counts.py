@@ -3,7 +3,7 @@
 from math import factorial
 
 from ordersbehind.classes import is_odd
-from ordersbehind.pairs import pairs_on
+from ordersbehind.pairs import outside_and_one, pairs_on
 from ordersbehind.parts import part_of
 from ordersbehind.unions import side_by_side
 from ordersbehind.webs import Web
@@ -36,7 +36,7 @@ def has_orders(web):
 
 def one_thing_made(web, lot):
     """The web with a part of it made one thing."""
-    things = [thing for thing in range(web.size) if thing not in lot] + [lot[0]]
+    things = outside_and_one(web.size, lot)
     return Web(len(things), pairs_on(web.ties, things))
 
 

@@ -12,6 +12,11 @@ def all_but(size, thing):
     return [other for other in range(size) if other != thing]
 
 
+def outside_and_one(size, lot):
+    """The things outside the lot, ascending, and then the least thing of the lot, which stands for it."""
+    return [thing for thing in range(size) if thing not in lot] + [lot[0]]
+
+
 def pairs_renamed(pairs, row):
     return [(row[first], row[second]) for first, second in pairs]
 

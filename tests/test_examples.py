@@ -2,6 +2,8 @@
 
 import unittest
 
+from ordersbehind.asking import Answerer, Asker, asks_at_most, least_asks
+from ordersbehind.bars import bar, bars_of, is_bar
 from ordersbehind.behind import Behind
 from ordersbehind.bottoms import bottom_order, bottoms_in_all, count_bottoms, count_ends
 from ordersbehind.carrying import carried
@@ -12,14 +14,19 @@ from ordersbehind.colourwood import colour_place, count_loose, knot_colours
 from ordersbehind.counts import share_of_parts
 from ordersbehind.crowdrows import CrowdRows, both_ends, count_first
 from ordersbehind.crowds import crowds
+from ordersbehind.deeds import Asked, Out, Placed, Put, deed_text
+from ordersbehind.desks import Desk
 from ordersbehind.drawings import Drawings
-from ordersbehind.errors import BadText, NoRows, NoSpans, NotLoose, NotTied
+from ordersbehind.errors import BadText, NoOrders, NoRows, NoSpans, NotLoose, NotTied
 from ordersbehind.fitting import order_and_line
 from ordersbehind.flips import distance, flip, loose
 from ordersbehind.forcing import forced_by
+from ordersbehind.grafts import back_row, graft, graft_counts, merged, part_order
 from ordersbehind.growing import count_going, goes_on, grown, sides, with_thing
 from ordersbehind.likeness import count_permutations, count_renamings, renaming
 from ordersbehind.lines import jump_counts
+from ordersbehind.listings import listing
+from ordersbehind.majority import count_nearest, majority_of, nearest
 from ordersbehind.middles import count_between, share_as_part
 from ordersbehind.names import order_name, web_name
 from ordersbehind.orders import Order
@@ -187,6 +194,52 @@ class ExamplesTest(Case):
         self.same([sides(order, [1, 0]), count_going(order, web)], [(((), (0, 1)), ((0,), (1,)), ((0, 1), ())), 3])
         web, number = grown([[], [0], [1], [2], [3, 0]])
         self.same([web.ties, number], [((0, 1), (0, 4), (1, 2), (2, 3), (3, 4)), 4])
+
+    def test_majority(self):
+        web = with_thing(Web(4, [(0, 1), (2, 3)]), [2, 1])
+        order = Order(4, [(0, 1), (2, 3)])
+        self.same([goes_on(order, web), nearest(order, web).arrows, majority_of(order, web, (4, 2)),
+                   count_nearest(order, web)], [(), ((0, 1), (3, 2), (4, 1), (4, 2)), (1, 1), 2])
+        web = with_thing(Web(2, [(0, 1)]), (0, 1))
+        order = Order(2, [(0, 1)])
+        self.same([sides(order, [1, 0]), count_going(order, web), nearest(order, web).arrows],
+                  [(((), (0, 1)), ((0,), (1,)), ((0, 1), ())), 3, ((0, 1), (0, 2), (1, 2))])
+
+    def test_grafts(self):
+        web = Web(3, [(0, 1), (1, 2)])
+        self.same([graft(web, 1, Web.full(2)).ties, merged(web, 1, Web.full(2)), graft_counts(web, 1, Web.full(2))],
+                  [((0, 2), (0, 3), (1, 2), (1, 3), (2, 3)), "full", (6, 6, 4)])
+        one, inside = part_order(Order(4, [(2, 1), (2, 3), (1, 3)]), [3, 1])
+        self.same([one.arrows, inside.arrows, back_row(4, [3, 1])], [((1, 2),), ((0, 1),), (0, 2, 1, 3)])
+
+    def test_bars(self):
+        w = Web(7, [(0, 1), (1, 2), (2, 3), (3, 4), (0, 4), (1, 5), (4, 5)])
+        self.same([bar(w), bars_of(w), is_bar(w, [5, 4, 3, 2, 1]), is_bar(w, (0, 1, 2, 3, 4, 5))],
+                  [(0, 1, 2, 3, 4), ((0, 1, 2, 3, 4), (1, 2, 3, 4, 5)), True, False])
+
+    def test_asking(self):
+        k = Asker(Behind(Web.full(4)))
+        self.same([k.run(Order.along((2, 0, 3, 1))), k.next_ask([(2, 0)]), least_asks(k.behind),
+                   asks_at_most(k.behind)], [((0, 1), (0, 2), (0, 3), (1, 3)), (0, 1), 5, 5])
+        a = Answerer(Behind(Web.full(3)))
+        self.same([a.answer((2, 1)), a.answer((0, 2)), a.left, a.answer([1, 0]), a.answer((2, 0)), a.told],
+                  [(1, 2), (0, 2), 2, (0, 1), (0, 2), ((1, 2), (0, 2), (0, 1))])
+
+    def test_desks(self):
+        desk = Desk(Web(3, [(0, 1), (1, 2)]))
+        first = desk.put([2, 1])
+        second = desk.ask(1, 0)
+        text = ("things 4, ties 4, orders 4, deeds 2\n  0: below 1; above -\n  1: below -; above 0 2 3\n"
+                "  2: below 1; above 3\n  3: below 1 2; above -\nfull  0 1 2 3: 1 0\nfull  2 3: 0 1\n")
+        self.same([first, second, desk.order.arrows, desk.history(), desk.number_told(), listing(desk)],
+                  [0, 3, ((1, 0), (1, 2), (1, 3), (2, 3)), ("put", "asked"), 2, text])
+        desk = Desk(Web(4, [(0, 1), (1, 2), (2, 3)]))
+        placed = Placed(0, Web(2), Order(2))
+        tried = desk.trial([Out(0), placed])
+        self.same([deed_text(placed), tried.order.arrows, tried.many, desk.order.arrows],
+                  ["placed 0 (2 things)", ((0, 1), (0, 2), (0, 3)), 0, ((0, 1), (2, 1), (2, 3))])
+        desk = Desk(Web(4, [(0, 1), (1, 2), (2, 3)]))
+        self.told(NoOrders, {}, desk.do_all, [Asked(1, 0), Put((0, 3))])
 
 
 if __name__ == "__main__":

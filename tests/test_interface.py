@@ -65,6 +65,16 @@ FUNCTIONS = {
     "growing": ["with_thing(web, near)", "goes_on(order, web)", "count_going(order, web)", "stuck(order, web)",
                 "is_stuck_pair(order, web, one, arrows)", "sides(order, near)", "order_by_sides(order, low, high)",
                 "joined_classes(web)", "grown(nears)"],
+    "majority": ["nearest(order, web)", "least_turned(order, web)", "count_nearest(order, web)",
+                 "turned_ties(order, other)", "majority_of(order, web, tie)"],
+    "onetie": ["may_add(order, first, second)", "added(order, first, second)", "may_drop(order, first, second)",
+               "dropped(order, first, second)"],
+    "grafts": ["graft(web, thing, guest)", "graft_order(order, thing, guest_order)", "part_order(order, lot)",
+               "merged(web, thing, guest)", "graft_counts(web, thing, guest)", "back_row(size, lot)"],
+    "bars": ["bar(web)", "is_bar(web, lot)", "bar_papers(web, lot)", "bars_of(web)"],
+    "asking": ["least_asks(behind)", "asks_at_most(behind)", "asks_at_least(behind)", "idle(behind, told, tie)"],
+    "deeds": ["deed_text(deed)"],
+    "listings": ["thing_line(desk, thing)", "listing(desk)"],
 }
 
 METHODS = {
@@ -83,6 +93,17 @@ METHODS = {
                           "number_of_rows(self, rows)", "put_together(self, order, other)", "by_number(self)"],
     "crowdrows.CrowdRows": ["__init__(self, web)", "crowd_row(self, order)", "order_of_crowds(self, row)",
                             "at(self, number)", "number_of(self, row)", "by_number(self)"],
+    "asking.Asker": ["__init__(self, behind)", "next_ask(self, told)", "run(self, order)", "found(self, told)"],
+    "asking.Answerer": ["__init__(self, behind)", "answer(self, tie)", "sure(self)"],
+    "deeds.Deed": ["word(self)"],
+    "deeds.Put": ["__init__(self, neighbours)", "word(self)"],
+    "deeds.Out": ["__init__(self, thing)", "word(self)"],
+    "deeds.Asked": ["__init__(self, first, second)", "word(self)"],
+    "deeds.Placed": ["__init__(self, thing, guest, guest_order)", "word(self)"],
+    "deeds.Fused": ["__init__(self, lot)", "word(self)"],
+    "desks.Desk": ["__init__(self, web, *, order=None)", "history(self)", "put(self, near)", "out(self, thing)",
+                   "ask(self, first, second)", "put_in(self, thing, guest, guest_order)", "fuse(self, lot)",
+                   "do(self, deed)", "do_all(self, deeds)", "trial(self, deeds)", "back(self)", "number_told(self)"],
 }
 
 SIGNS = {
@@ -91,6 +112,7 @@ SIGNS = {
     "wood.Wood": ["__len__", "__iter__", "__contains__"],
     "behind.Behind": ["__contains__", "__eq__"],
     "carrying.Carrier": ["__call__", "__eq__"],
+    "desks.Desk": ["__eq__"],
 }
 
 DECORATED = {
@@ -100,7 +122,24 @@ DECORATED = {
     "behind.Behind": [("many", property)],
     "drawings.Drawings": [("many", property)],
     "crowdrows.CrowdRows": [("many", property)],
+    "asking.Answerer": [("left", property)],
+    "desks.Desk": [("many", property)],
 }
+
+ERRORS = {
+    "BadNumber": "name", "BadThing": "name", "BadPair": "place", "BadLot": "place", "BadRow": "place",
+    "BadText": "line", "BadWays": "place", "BadSizes": "place", "BadLevels": "place", "BadSpan": "place",
+    "BadCrowds": "place", "BadDeed": "place", "NotTied": "first, second", "NotArrow": "first, second",
+    "NotClosed": "first, second, third", "NotBehind": "first, second", "OtherWeb": "first, second",
+    "NotPart": "thing", "NotLoose": "first, second", "NotInLine": "first, second", "NotDrawing": "first, second",
+    "NotCrowd": "", "NotBar": "", "NotHeld": "", "NoMiddle": "things", "NothingDone": "", "NoOrders": "ring",
+    "NoRows": "ring, contrary", "NoSpans": "four, ring", "TooMany": "name",
+}
+
+# Every heading of the interface.
+FILES = """errors checks webs orders texts plain forcing classes chains rings parts wood colourwood behind choices counts
+    flips walks turns pins middles wishes shares bottoms lines carrying levels fitting crossings drawings unbroken manyrows
+    crowds spans crowdrows names likeness unlike growing majority onetie grafts bars asking deeds desks listings""".split()
 
 
 def found(path):
@@ -138,6 +177,20 @@ class InterfaceTest(unittest.TestCase):
     def test_places_of_classes(self):
         for path in METHODS:
             self.assertEqual(found(path).__module__, "ordersbehind." + path.split(".")[0])
+
+    def test_files(self):
+        told = set(FUNCTIONS) | {path.split(".")[0] for path in METHODS} | {"errors"}
+        self.assertEqual(set(FILES), told)
+
+    def test_errors(self):
+        module = importlib.import_module("ordersbehind.errors")
+        for name, attributes in ERRORS.items():
+            error = getattr(module, name)
+            self.assertEqual((error.__bases__, error.__module__), ((module.BehindError,), module.__name__))
+            names = attributes.split(", ") if attributes else []
+            raised = error(*range(len(names)))
+            self.assertEqual([getattr(raised, one) for one in names], list(range(len(names))))
+        self.assertEqual(module.BehindError.__bases__, (ValueError,))
 
     def test_parameters_of_class_methods(self):
         self.assertEqual(str(inspect.signature(found("webs.Web").full)), "(size)")
