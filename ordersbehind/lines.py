@@ -1,12 +1,10 @@
 """Rows in line with an order: how many there are, their jumps, and words below an order."""
 
-from math import factorial
-
 from ordersbehind.checks import is_several, is_whole, row_of
 from ordersbehind.errors import BadSizes, NotInLine, TooMany
 from ordersbehind.masks import all_of, has_thing, mask_of
 from ordersbehind.ranks import places_in
-from ordersbehind.rowcounts import check_few, count_rows, ready_in
+from ordersbehind.rowcounts import check_few, count_rows, mixtures, ready_in
 from ordersbehind.wood import Wood
 
 MOST_LISTED = 5000
@@ -127,14 +125,6 @@ def words_below(order, sizes):
     sizes = sizes_of(order, sizes)
     check_few(sum(sizes))
     return count_rows(letter_aheads(order, sizes))
-
-
-def mixtures(sizes):
-    """In how many ways rows of these sizes are mixed into one row."""
-    many = factorial(sum(sizes))
-    for size in sizes:
-        many = many // factorial(size)
-    return many
 
 
 def factor_at(knot, order):

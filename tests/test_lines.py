@@ -1,5 +1,6 @@
 """Rows in line with an order: points 91 to 94."""
 
+import random
 import types
 import unittest
 from math import factorial
@@ -96,6 +97,24 @@ class RowsTest(Case):
         self.same((in_line(p, tuple(range(40))), in_line(p, tuple(range(39, -1, -1)))), (True, False))
         self.same(jumps(p, tuple(range(40))), 0)
 
+    def test_pieces(self):
+        chance = random.Random(94)
+        orders = [Order(size, arrows) for size, arrows in small_orders()]
+        for _ in range(40):
+            one, other = chance.choice(orders), chance.choice(orders)
+            p = one | other
+            mixed = factorial(p.size) // (factorial(one.size) * factorial(other.size))
+            q = p.renamed(chance.sample(range(p.size), p.size))
+            self.same(count_lines(q), count_lines(one) * count_lines(other) * mixed)
+            self.same(count_lines(one & other), count_lines(one) * count_lines(other))
+
+    def test_fourteen_things(self):
+        star = Order(14, [(0, thing) for thing in range(1, 14)])
+        self.same((count_lines(star), count_lines(~star)), (factorial(13), factorial(13)))
+        p = Order(14, [(0, 1)])
+        self.same(count_lines(p), factorial(14) // 2)
+        self.same(count_lines(Order(7) & Order(7)), factorial(7) ** 2)
+
     def test_rows_of_larger_orders(self):
         # Four things, above them six in three pairs, above them four in two pairs.
         p = Order(4) & (Order.along((0, 1)) | Order.along((0, 1)) | Order.along((0, 1)))
@@ -165,6 +184,16 @@ class WordsTest(Case):
         # The two orders behind a firm quotient.
         p = Order(4, [(0, 1), (2, 1), (2, 3)])
         self.same(words_below(p, (1, 2, 3, 4)), words_below(~p, [1, 2, 3, 4]))
+
+    def test_pieces(self):
+        """Words of things that no arrows lead from one to the other are mixed in all ways."""
+        self.same(words_below(Order(4, [(0, 1), (2, 3)]), (3, 4, 4, 3)), factorial(14) // factorial(7) ** 2)
+        self.same(words_below(Order(4, [(0, 3), (2, 1)]), (3, 4, 4, 3)), factorial(14) // factorial(6) // factorial(8))
+        self.same(words_below(Order(3), (2, 5, 7)), factorial(14) // (2 * factorial(5) * factorial(7)))
+        p = Order(4, [(0, 1), (2, 1), (2, 3)])
+        for sizes in ((2, 1, 1, 3), (1, 2, 2, 1), (3, 1, 1, 1)):
+            mixed = factorial(sum(sizes) + 5) // (factorial(sum(sizes)) * factorial(5))
+            self.same(words_below(p | Order.along((1, 0)), sizes + (3, 2)), own_words(p.arrows, sizes) * mixed)
 
     def test_errors(self):
         p = Order(3, [(0, 1)])
