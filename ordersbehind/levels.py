@@ -2,11 +2,12 @@
 
 from ordersbehind.checks import is_several, is_whole, lot_of, number_of_kind
 from ordersbehind.errors import BadLevels
-from ordersbehind.masks import has_thing
-from ordersbehind.rowcounts import check_few
+from ordersbehind.masks import all_of, mask_of, things_in
+from ordersbehind.rowcounts import check_few, pieces_of
 from ordersbehind.turns import check_part_of
 
 MOST_LEVELS = 12
+FEW_THINGS = 4
 
 
 def is_levelling(order, many, levels, *, strict=True):
@@ -20,31 +21,60 @@ def is_levelling(order, many, levels, *, strict=True):
     return all([levels[second] - levels[first] >= least for first, second in order.arrows])
 
 
-def thing_put_in(counts, below, thing):
-    """The counts for each lot, a mask, that was reached so far or is reached by putting the thing into one.
+def in_turn(order, piece, strict):
+    """The things of a piece, a mask, in the sequence in which they are put in at each level.
 
-    The thing is put in only where all things of below, a mask, are in the lot.
+    So the things of one level are put in in one sequence alone. Downwards, no thing of a level is below another
+    one: what is above was put in earlier, when that other one was already there.
     """
-    found = list(counts)
-    for lot, count in enumerate(counts):
-        if count > 0 and not has_thing(lot, thing) and below & ~lot == 0:
-            found[lot | (1 << thing)] = found[lot | (1 << thing)] + count
+    upwards = sorted(things_in(piece), key=lambda thing: len(things_in(order.downs[thing])))
+    return upwards[::-1] if strict else upwards
+
+
+def thing_put_in(counts, below, both):
+    """The counts for each lot, a mask, that was reached so far or is reached by putting a thing into one.
+
+    The thing is put in only where all things of below, a mask, are in the lot; both is below with the thing.
+    """
+    found = dict(counts)
+    for lot, count in counts.items():
+        if lot & both == below:
+            found[lot | both] = found.get(lot | both, 0) + count
     return found
+
+
+def count_in_piece(order, many, things):
+    """The number of levellings of the piece of the order that has these things, which are put in in turn."""
+    needs = [(order.downs[thing], order.downs[thing] | (1 << thing)) for thing in things]
+    counts = {0: 1}
+    for _ in range(many):
+        for below, both in needs:
+            counts = thing_put_in(counts, below, both)
+    return counts.get(mask_of(things), 0)
+
+
+def count_rising(order, many, strict):
+    """The number of levellings of an order that has arrows, in at least two levels."""
+    # Few things are counted faster as a whole than they are put into pieces.
+    pieces = pieces_of(order.downs) if order.size > FEW_THINGS else [all_of(order.size)]
+    total = 1
+    for piece in pieces:
+        total = total * count_in_piece(order, many, in_turn(order, piece, strict))
+    return total
 
 
 def count_levellings(order, many, *, strict=True):
     """The number of levellings of the order in so many levels."""
     number_of_kind(many, 1, MOST_LEVELS, "many")
     check_few(order.size)
-    upwards = sorted(list(range(order.size)), key=lambda thing: len(order.below(thing)))
-    # The things of one level are put in one after another, in one sequence alone. Downwards, no thing of a
-    # level is below another one: what is above was put in earlier, when that other one was already there.
-    things = upwards[::-1] if strict else upwards
-    counts = [1] + [0] * ((1 << order.size) - 1)
-    for _ in range(many):
-        for thing in things:
-            counts = thing_put_in(counts, order.downs[thing], thing)
-    return counts[-1]
+    if order.arrows and many > 1:
+        return count_rising(order, many, strict)
+    if order.arrows:
+        return 0 if strict else 1
+    total = 1
+    for _ in range(order.size):
+        total = total * many
+    return total
 
 
 def levels_of(order, levels):

@@ -1,5 +1,6 @@
 """Levellings: points 97, 98 and 101."""
 
+import random
 import unittest
 from itertools import combinations, product
 
@@ -95,6 +96,53 @@ class CountTest(Case):
             apart = sum(not any(look.tied(a, b) for a, b in combinations(lot, 2)) for lot in lots)
             self.assertEqual(closed, apart)
             self.same(count_levellings(Order(told[0], arrows), 2, strict=False), closed)
+
+    def test_pieces(self):
+        """The levels of things that no arrows lead from one to the other are chosen apart."""
+        chance = random.Random(97)
+        for _ in range(40):
+            one, other = [Order(*chance.choice(self.few())) for _ in range(2)]
+            p = one | other
+            p = p.renamed(chance.sample(range(p.size), p.size))
+            for many in (1, 2, 3, 7, 12):
+                for strict in (True, False):
+                    want = count_levellings(one, many, strict=strict) * count_levellings(other, many, strict=strict)
+                    self.same(count_levellings(p, many, strict=strict), want)
+
+    def few(self):
+        return [(4, ((0, 1), (2, 1), (2, 3))), (5, ((0, 1), (0, 3), (2, 1), (2, 3), (4, 3))), (1, ()), (3, ((0, 2),)),
+                (7, tuple((a, a + 1) if a % 2 == 0 else (a + 1, a) for a in range(6)))]
+
+    def test_of_larger_orders(self):
+        """By the sets that are closed downwards, level by level."""
+        for size, arrows in [(7, ((0, 1), (0, 3), (2, 1), (2, 3), (4, 3), (4, 5), (6, 5))), (7, ((0, 6), (1, 6))),
+                             (8, ((0, 2), (0, 3), (1, 3), (1, 2), (4, 5))), (9, ((0, 8), (1, 8), (1, 7), (2, 7)))]:
+            masks = [sum(1 << thing for thing in lot) for lot in every_lot(size, least=0)
+                     if all(a in lot for a, b in arrows if b in lot)]
+            for strict in (True, False):
+                ways = {0: 1}
+                for many in (1, 2, 3):
+                    coming = {}
+                    for lot, count in ways.items():
+                        for more in masks:
+                            inside = more & ~lot
+                            flat = not any(inside >> a & 1 and inside >> b & 1 for a, b in arrows)
+                            if lot & ~more == 0 and (flat or not strict):
+                                coming[more] = coming.get(more, 0) + count
+                    ways = coming
+                    self.same(count_levellings(Order(size, arrows), many, strict=strict),
+                              ways.get((1 << size) - 1, 0))
+
+    def test_fourteen_things(self):
+        p = Order.along(tuple(range(14)))
+        self.same([count_levellings(p, 2, strict=False), count_levellings(p, 1), count_levellings(p, 1, strict=False)],
+                  [15, 0, 1])
+        self.same([count_levellings(p, 12), count_levellings(p, 12, strict=False)], [0, 4457400])
+        star = Order(14, [(0, thing) for thing in range(1, 14)])
+        self.same([count_levellings(star, many, strict=False) for many in (1, 2, 12)],
+                  [sum(level ** 13 for level in range(1, many + 1)) for many in (1, 2, 12)])
+        self.same([count_levellings(star, many) for many in (1, 2, 12)],
+                  [sum(level ** 13 for level in range(many)) for many in (1, 2, 12)])
 
     def test_known(self):
         self.same([count_levellings(Order(14), 12), count_levellings(Order(14), 12, strict=False)], [12 ** 14] * 2)
