@@ -141,16 +141,17 @@ def answer_to(behind, demands, tie):
 
 
 class Answerer:
-    """Answers asks without thinking of an order, so that many orders are left."""
+    """Answers asks without thinking of an order. What remains is the number of orders that have all told arrows."""
 
     def __init__(self, behind):
         self.behind = behind
         self.told = ()
+        self.remaining = behind.many
 
     @property
     def left(self):
         """How many orders behind the web have all told arrows."""
-        return count_held(self.behind, self.told)
+        return self.remaining
 
     def answer(self, tie):
         """The arrow of the tie that is answered."""
@@ -166,6 +167,7 @@ class Answerer:
             return second, first
         arrow = answer_to(self.behind, demands, (first, second))
         self.told = self.told + (arrow,)
+        self.remaining = count_held(self.behind, self.told)
         return arrow
 
     def sure(self):

@@ -108,7 +108,9 @@ class Desk:
         """Takes the last kept deed back and returns its word."""
         if self.many == 0:
             raise NothingDone()
-        word, self.web, self.order = self.kept[-1]
+        word, web, order = self.kept[-1]
+        self.web = web
+        self.order = order
         self.kept = self.kept[:-1]
         return word
 

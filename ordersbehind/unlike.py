@@ -4,8 +4,9 @@ from ordersbehind.checks import number_of_kind
 from ordersbehind.crossings import crossing_web
 from ordersbehind.drawings import Drawings
 from ordersbehind.errors import TooMany
-from ordersbehind.names import order_name, rows_spelling, web_name
-from ordersbehind.readings import firm_text, free_name, full_name, reading_along, rows_at, two_drawings
+from ordersbehind.names import order_name, rows_spelling, spelled, web_name
+from ordersbehind.readings import (firm_text, four_drawings, free_name, full_name, reading_along, rows_at,
+                                   two_drawings)
 from ordersbehind.walks import rows_in_turn
 from ordersbehind.wood import Wood
 
@@ -70,9 +71,8 @@ def web_like_contrary(web):
     return web_name(web) == web_name(~web)
 
 
-def name_spelled(places):
-    """The name of the web in which the rows that spell the places cross."""
-    rows = rows_spelling(places)
+def name_drawn(rows):
+    """The name of the web in which the two rows cross."""
     return reading_along(Wood(crossing_web(rows)), rows, False).name
 
 
@@ -80,7 +80,13 @@ def permutation_table(size):
     """Each name of the webs in which rows of this size cross, and how many rows spell such webs."""
     number_of_kind(size, 1, LARGEST_TABLE, "size")
     found = {}
+    met = {}
     for places in rows_in_turn(size):
-        name = name_spelled(places)
-        found[name] = found.get(name, 0) + 1
+        if places not in met:
+            rows = rows_spelling(places)
+            # The rows in each other's place and both rows backwards cross in webs that are alike.
+            spelling = {spelled(drawing): True for drawing in four_drawings(rows)}
+            met.update(spelling)
+            name = name_drawn(rows)
+            found[name] = found.get(name, 0) + len(spelling)
     return in_names(found)
