@@ -4,9 +4,9 @@ from ordersbehind.checks import number_of_kind
 from ordersbehind.crossings import crossing_web
 from ordersbehind.drawings import Drawings
 from ordersbehind.errors import TooMany
-from ordersbehind.names import order_name, rows_spelling, spelled, web_name
-from ordersbehind.readings import (firm_text, four_drawings, free_name, full_name, reading_along, rows_at,
-                                   two_drawings)
+from ordersbehind.names import order_name, rows_spelling, web_name
+from ordersbehind.ranks import places_in
+from ordersbehind.readings import firm_text, free_name, full_name, reading_along, rows_at, two_drawings
 from ordersbehind.walks import rows_in_turn
 from ordersbehind.wood import Wood
 
@@ -71,9 +71,21 @@ def web_like_contrary(web):
     return web_name(web) == web_name(~web)
 
 
-def name_drawn(rows):
-    """The name of the web in which the two rows cross."""
+def name_spelled(places):
+    """The name of the web in which the rows that spell the places cross."""
+    rows = rows_spelling(places)
     return reading_along(Wood(crossing_web(rows)), rows, False).name
+
+
+def spelled_backwards(places):
+    """What two rows spell when both are written backwards."""
+    return tuple([len(places) - 1 - place for place in places[::-1]])
+
+
+def spelled_alike(places):
+    """What the rows spell that spell the places, those in each other's place, and both of these backwards."""
+    turned = places_in(places)
+    return sorted({places, turned, spelled_backwards(places), spelled_backwards(turned)})
 
 
 def permutation_table(size):
@@ -83,10 +95,10 @@ def permutation_table(size):
     met = {}
     for places in rows_in_turn(size):
         if places not in met:
-            rows = rows_spelling(places)
-            # The rows in each other's place and both rows backwards cross in webs that are alike.
-            spelling = {spelled(drawing): True for drawing in four_drawings(rows)}
-            met.update(spelling)
-            name = name_drawn(rows)
-            found[name] = found.get(name, 0) + len(spelling)
+            # Rows in each other's place or written backwards cross in webs that are alike.
+            alike_ones = spelled_alike(places)
+            for other in alike_ones:
+                met[other] = True
+            name = name_spelled(places)
+            found[name] = found.get(name, 0) + len(alike_ones)
     return in_names(found)

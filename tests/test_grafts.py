@@ -116,6 +116,9 @@ class GraftTest(Case):
             for call in (graft, merged, graft_counts):
                 self.told(BadThing, {"name": "thing"}, call, Web(3), value, Web(2))
             self.told(BadThing, {"name": "thing"}, graft_order, Order(3), value, Order(2))
+            self.told(BadThing, {"name": "thing"}, merged, Web(3), value, Web(1))
+        for value in strange_things(1):
+            self.told(BadThing, {"name": "thing"}, merged, Web(1), value, Web(3))
 
 
 class MergedTest(Case):
